@@ -1,0 +1,1 @@
+"""Tallyweb: how many ties each has, and the webs that have so many."""
