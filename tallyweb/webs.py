@@ -45,10 +45,27 @@ def tied(web, one, other):
     return (min(one, other), max(one, other)) in web[1]
 
 
+def all_pairs(places):
+    pairs = []
+    for one in range(places):
+        pairs += [(one, other) for other in range(one + 1, places)]
+    return pairs
+
+
 def other_web(web):
-    lacking = []
-    for one in range(web[0]):
-        for other in range(one + 1, web[0]):
-            if not tied(web, one, other):
-                lacking.append((one, other))
-    return (web[0], tuple(lacking))
+    return (web[0], tuple([pair for pair in all_pairs(web[0]) if pair not in web[1]]))
+
+
+def beside(web):
+    near = [[] for place in range(web[0])]
+    for one, other in web[1]:
+        near[one].append(other)
+        near[other].append(one)
+    return near
+
+
+def is_told(web):
+    try:
+        return made(web[0], web[1]) == web
+    except BadWeb:
+        return False

@@ -120,6 +120,77 @@ def faults_of_values(node):
     return faults
 
 
+WALKERS = ("zip", "enumerate", "reversed", "range")
+TAKERS = ("list", "tuple", "dict", "sorted", "sum", "any", "all", "enumerate", "zip")
+KEYWORDS = {
+    "sorted": ("key", "reverse"), "min": ("key", "default"), "max": ("key", "default"),
+    "sum": ("start",), "enumerate": ("start",), "zip": ("strict",),
+}
+CHANGES = ("append", "clear", "extend", "insert", "pop", "remove", "reverse", "setdefault", "update")
+
+
+def called(node):
+    return node.func.id if isinstance(node, ast.Call) and isinstance(node.func, ast.Name) else ""
+
+
+def is_walker(node):
+    by_method = isinstance(node, ast.Call) and isinstance(node.func, ast.Attribute)
+    return called(node) in WALKERS or (by_method and node.func.attr in ("items", "keys", "values"))
+
+
+def walked_at_once(node, above):
+    if isinstance(above, (ast.For, ast.comprehension)):
+        return above.iter is node
+    if called(above) in TAKERS:
+        return node in above.args and (above.args[0] is node or called(above) == "zip")
+    return called(above) in ("min", "max") and above.args == [node] and not above.keywords
+
+
+def is_set_sum(node):
+    return isinstance(node, ast.BinOp) and isinstance(node.op, (ast.Sub, ast.BitAnd, ast.BitOr, ast.BitXor))
+
+
+def set_used_at_once(node, above):
+    if isinstance(above, ast.Compare):
+        return isinstance(above.ops[0], (ast.In, ast.NotIn, ast.Eq, ast.NotEq))
+    return called(above) in ("sorted", "len") and not above.keywords
+
+
+def faults_of_walks(node):
+    faults = []
+    for child in ast.iter_child_nodes(node):
+        if is_walker(child) and not walked_at_once(child, node):
+            faults.append(f"L23: {ast.unparse(child)} is not walked on the spot")
+        in_sum = called(child) == "set" and is_set_sum(node)
+        as_sum = is_set_sum(child) and called(child.left) == "set"
+        if (called(child) == "set" or as_sum) and not in_sum and not set_used_at_once(child, node):
+            faults.append(f"L24: {ast.unparse(child)} is kept or walked")
+    if called(node) in OWN_NAMES_OF_PYTHON:
+        let = KEYWORDS.get(called(node), ())
+        faults += [f"L22: the keyword {keyword.arg}" for keyword in node.keywords if keyword.arg not in let]
+    if isinstance(node, ast.For):
+        walked = [ast.unparse(part) for part in ast.walk(node.iter) if isinstance(part, (ast.Name, ast.Attribute))]
+        for part in [part for row in node.body for part in ast.walk(row)]:
+            by_method = isinstance(part, ast.Call) and isinstance(part.func, ast.Attribute)
+            if by_method and part.func.attr in CHANGES and ast.unparse(part.func.value) in walked:
+                faults.append(f"L23: {ast.unparse(part)} changes what is walked")
+    return faults
+
+
+def names_within(tree):
+    """The parameters and locals of the functions of a file."""
+    parts = [part for node in tree.body for part in ast.walk(node) if isinstance(node, (ast.FunctionDef, ast.ClassDef))]
+    return [name for part in parts if isinstance(part, (ast.arg, ast.Name)) for name in bound_names(part)]
+
+
+def faults_of_hidden_names(tree):
+    held = []
+    for node in tree.body:
+        if isinstance(node, (ast.ClassDef, ast.ImportFrom)):
+            held += bound_names(node)
+    return [f"L15: {name} is a class or an import too" for name in names_within(tree) if name in held]
+
+
 def faults_of_statements(node):
     faults = []
     if isinstance(node, ast.Assign) and len(node.targets) > 1:
@@ -163,7 +234,7 @@ def faults_of_top(tree, package):
 
 def faults_of(text, package):
     tree = ast.parse(text)
-    faults = faults_of_text(text) + faults_of_top(tree, package)
+    faults = faults_of_text(text) + faults_of_top(tree, package) + faults_of_hidden_names(tree)
     own_methods = [node.name for node in ast.walk(tree) if isinstance(node, ast.FunctionDef)]
     for node in ast.walk(tree):
         kind = type(node).__name__
@@ -173,6 +244,7 @@ def faults_of(text, package):
             if node.func.attr not in METHODS + own_methods:
                 faults.append(f"L25: the method {node.func.attr}")
         faults += faults_of_names(node) + faults_of_defs(node) + faults_of_values(node) + faults_of_statements(node)
+        faults += faults_of_walks(node)
     return faults
 
 

@@ -35,6 +35,19 @@ OUTSIDE = (
     "def f(x):\n    return 1 # the type of x\n",
     "def f(x):\n    return f'{x + 1}'\n",
     "def f(x):\n    print(x)\n",
+    "from tallyweb.walls import room\ndef f(room):\n    return room\n",
+    "from tallyweb.walls import room\ndef f(x):\n    room = x\n    return room\n",
+    "class C:\n    pass\ndef f(x):\n    return [C for C in x]\n",
+    "def f(n):\n    xs = range(n)\n    return xs\n",
+    "def f(n):\n    return max(range(n), key=lambda x: -x)\n",
+    "def f(xs):\n    return reversed(xs)\n",
+    "def f(d):\n    return d.items()\n",
+    "def f(xs):\n    ys = set(xs)\n    return 1 in ys\n",
+    "def f(xs):\n    return [x for x in set(xs)]\n",
+    "def f(xs, ys):\n    return list(set(xs) - set(ys))\n",
+    "def f(xs):\n    return sorted(set(xs), reverse=True)\n",
+    "def f(xs):\n    return tuple(sequence=xs)\n",
+    "def f(xs):\n    for x in xs:\n        xs.append(x)\n",
     "class C:\n    value = 1\n",
     "A = 1\nA = 2\n",
     "if True:\n    A = 1\n",
@@ -66,6 +79,12 @@ def total(row, most=MOST):
     if not 0 <= many <= most or len(set(row.cells)) > 2:
         raise BadWeb(f"there are {many}")
     return sorted(range(many), key=lambda one: (-one, one))
+
+
+def unlike(xs, ys):
+    if set(xs) == set(ys) or 3 in set(xs) | set(ys):
+        return []
+    return sorted(set(xs) - set(ys)) + list(reversed(ys)) + [max(range(4))]
 '''
 
 

@@ -3,11 +3,9 @@
 import itertools
 import unittest
 
+from small import NOT_TALLIES, SIXTY
 from tallyweb.errors import BadTally, NoPlace
 from tallyweb.tallies import moved, order_of
-
-SIXTY = 10 ** 60 - 1
-NOT_TALLIES = ([], (), [0] * 25, (0,) * 25, list(range(30)), (3,) * 1000)
 
 
 class OrderOf(unittest.TestCase):

@@ -4,22 +4,11 @@ import copy
 import itertools
 import unittest
 
+from small import SIXTY, all_pairs, all_webs
 from tallyweb.errors import BadWeb, NoPlace
 from tallyweb.webs import made, other_web, tally_of, tied
 
-SIXTY = 10 ** 60 - 1
 NO_PLACES_OF_FOUR = (-1, -4, -5, 4, 5, 24, 1000, SIXTY, -SIXTY)
-
-
-def all_pairs(places):
-    return list(itertools.combinations(range(places), 2))
-
-
-def all_webs(places):
-    pairs = all_pairs(places)
-    for many in range(len(pairs) + 1):
-        for ties in itertools.combinations(pairs, many):
-            yield (places, ties)
 
 
 class Made(unittest.TestCase):

@@ -1,0 +1,64 @@
+"""Webs and tallies that several tests walk over, made without the program."""
+
+import itertools
+
+SIXTY = 10 ** 60 - 1
+NOT_TALLIES = ([], (), [0] * 25, (0,) * 25, list(range(30)), (3,) * 1000)
+
+
+def all_pairs(places):
+    return list(itertools.combinations(range(places), 2))
+
+
+def all_webs(places):
+    pairs = all_pairs(places)
+    for many in range(len(pairs) + 1):
+        for ties in itertools.combinations(pairs, many):
+            yield (places, ties)
+
+
+def counted(web):
+    """The tally of a web, as a tuple."""
+    tally = [0] * web[0]
+    for one, other in web[1]:
+        tally[one] += 1
+        tally[other] += 1
+    return tuple(tally)
+
+
+def webs_by_tally(places):
+    held = {}
+    for web in all_webs(places):
+        held.setdefault(counted(web), []).append(web)
+    return held
+
+
+def great_webs():
+    """Webs of 7 to 24 places, of no ties to all ties."""
+    for places in (7, 12, 19, 23, 24):
+        for let in range(12):
+            for turn in (1, 4):
+                ties = [
+                    (one, other) for one, other in all_pairs(places)
+                    if (one * one * turn + 5 * other + 3 * one * other) % 11 < let
+                ]
+                yield (places, tuple(ties))
+
+
+def round_web(places, *far):
+    """The places in a round, each tied to those so far from it."""
+    pairs = all_pairs(places)
+    return (places, tuple(pair for pair in pairs if (pair[1] - pair[0]) in far or places - (pair[1] - pair[0]) in far))
+
+
+def is_web(web):
+    """Whether it is told as point [5] says, kinds and all."""
+    if type(web) is not tuple or len(web) != 2 or type(web[0]) is not int or type(web[1]) is not tuple:
+        return False
+    pairs = all_pairs(web[0]) if 1 <= web[0] <= 24 else []
+    places_known = {pair: place for place, pair in enumerate(pairs)}
+    for tie in web[1]:
+        if type(tie) is not tuple or [type(end) for end in tie] != [int, int] or tie not in places_known:
+            return False
+    told = [places_known[tie] for tie in web[1]]
+    return 1 <= web[0] <= 24 and told == sorted(set(told))
