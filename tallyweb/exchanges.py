@@ -1,6 +1,7 @@
 """Exchanges: two ties of a web taken out for two others, so that the tally stays."""
 
 from tallyweb.errors import NoExchange, Unlike
+from tallyweb.leading import steps_between
 from tallyweb.tallies import order_of
 from tallyweb.webs import beside, is_place, made, tally_of, tied
 
@@ -58,18 +59,6 @@ def leading_nearer(one, two):
 def led(one, two):
     if tally_of(one) != tally_of(two):
         raise Unlike("the tallies of the two webs are unlike")
-    first = one
-    last = two
-    from_first = []
-    to_last = []
-    while first != last:
-        four = leading_nearer(first, last)
-        # Where a and d are tied in both webs the exchange is one that ends at the last web, not one
-        # that begins at the first: each leaves the two with at least two unlike ties fewer.
-        if can_exchange(first, four):
-            first = exchanged(first, four)
-            from_first.append(four)
-        else:
-            last = exchanged(last, (four[0], four[3], four[2], four[1]))
-            to_last.append(four)
-    return from_first + list(reversed(to_last))
+    # Where a and d are tied in both webs the exchange is one that ends at the second web, not one that
+    # begins at the first: either way at least two unlike ties fewer are left.
+    return steps_between(one, two, leading_nearer, can_exchange, exchanged)

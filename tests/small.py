@@ -4,6 +4,9 @@ import itertools
 
 SIXTY = 10 ** 60 - 1
 NOT_TALLIES = ([], (), [0] * 25, (0,) * 25, list(range(30)), (3,) * 1000)
+WITHOUT_WEB = (
+    [1], [-1], [2], [1, 0], [1, 3, 1, 3], (2, 2), [0, -1, 1], [SIXTY] * 2, [-SIXTY, SIXTY], (24,) * 24, [1] * 23,
+)
 
 
 def all_pairs(places):
@@ -62,3 +65,13 @@ def is_web(web):
             return False
     told = [places_known[tie] for tie in web[1]]
     return 1 <= web[0] <= 24 and told == sorted(set(told))
+
+
+def walked_pieces(web):
+    """The pieces of a web: a tie whose ends are in two pieces makes them one."""
+    pieces = [[place] for place in range(web[0])]
+    for tie in web[1]:
+        held = [piece for piece in pieces if tie[0] in piece or tie[1] in piece]
+        if len(held) == 2:
+            pieces = [piece for piece in pieces if piece not in held] + [held[0] + held[1]]
+    return sorted(sorted(piece) for piece in pieces)

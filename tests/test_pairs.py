@@ -3,14 +3,13 @@
 import itertools
 import unittest
 
-from small import NOT_TALLIES, SIXTY, all_pairs, all_webs, counted, great_webs, is_web, round_web, webs_by_tally
+from small import (
+    NOT_TALLIES, SIXTY, WITHOUT_WEB, all_pairs, all_webs, counted, great_webs, is_web, round_web, webs_by_tally,
+)
 from tallyweb.errors import BadTally, NoPlace, NoWeb
 from tallyweb.pairs import always, never, pair_shows, pair_told
 from tallyweb.walls import wall_of, wall_shows
 
-WITHOUT_WEB = (
-    [1], [-1], [2], [1, 0], [1, 3, 1, 3], (2, 2), [0, -1, 1], [SIXTY] * 2, [-SIXTY, SIXTY], (24,) * 24, [1] * 23,
-)
 WALLS = [("odd",)] + [(word, number) for word in ("below", "wall") for number in range(-2, 7)]
 WALLS += [(word, number) for word in ("below", "wall") for number in (SIXTY, -SIXTY)]
 
