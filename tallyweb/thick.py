@@ -1,6 +1,7 @@
 """Thick webs: with several ties between two places, up to a most."""
 
 from tallyweb.errors import BadNumber
+from tallyweb.levels import least_where, shares
 from tallyweb.tallies import check_tally
 from tallyweb.walls import room_with, wall_shows_with, wall_with
 from tallyweb.webs import is_told
@@ -19,32 +20,8 @@ def thick_room(tally, most, r):
     return room_with(tally, most, r)
 
 
-def least_where(low, high, holds):
-    # Where it holds of a number it holds of each greater one, and it holds of the high one.
-    while low < high:
-        middle = (low + high) // 2
-        if holds(middle):
-            high = middle
-        else:
-            low = middle + 1
-    return low
-
-
-def above(numbers, level, most):
-    return [min(most, max(0, number - level)) for number in numbers]
-
-
-def shares(numbers, much, most):
-    # Exchanges bring the ties of a place to where most are lacking, so its ties can be laid there:
-    # the greatest numbers are brought down to one level, as far as the most lets it.
-    level = least_where(0, max(numbers, default=0), lambda tried: sum(above(numbers, tried, most)) <= much)
-    laid = above(numbers, level, most)
-    deeper = above(numbers, level - 1, most)
-    one_more = [place for place in range(len(numbers)) if deeper[place] > laid[place]][:much - sum(laid)]
-    return [many + 1 if place in one_more else many for place, many in enumerate(laid)]
-
-
 def thick_laid(tally, most):
+    # Exchanges bring the ties of a place to where most are lacking, so its ties can be laid there.
     triples = []
     left = list(tally)
     for place in range(len(tally)):

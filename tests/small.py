@@ -75,3 +75,55 @@ def walked_pieces(web):
         if len(held) == 2:
             pieces = [piece for piece in pieces if piece not in held] + [held[0] + held[1]]
     return sorted(sorted(piece) for piece in pieces)
+
+
+def room_by_the_words(tally, r, most=1):
+    """The room at r as points [7] and [22] tell it."""
+    order = sorted(range(len(tally)), key=lambda place: (-tally[place], place))
+    space = most * r * (r - 1)
+    for place in order[r:]:
+        space += tally[place] if tally[place] < most * r else most * r
+    for place in order[:r]:
+        space -= tally[place]
+    return space
+
+
+def is_wall(tally, wall, most=1):
+    if wall[0] == "odd":
+        return sum(tally) % 2 == 1
+    if wall[0] == "below":
+        return wall[1] in range(len(tally)) and tally[wall[1]] < 0
+    return wall[1] in range(1, len(tally) + 1) and room_by_the_words(tally, wall[1], most) < 0
+
+
+def all_walls(places):
+    """Every wall that some tally of so many places has, in the order in which one is told."""
+    return [("below", place) for place in range(places)] + [("odd",)] + [("wall", r) for r in range(1, places + 1)]
+
+
+def told_wall(tally, most=1):
+    return next((wall for wall in all_walls(len(tally)) if is_wall(tally, wall, most)), None)
+
+
+def webs_of(tally):
+    """All webs of a tally, in the order of their ties: each pair of places in turn is tied or left."""
+    places = len(tally)
+    begun = [((), tuple(tally))]
+    for one, other in all_pairs(places):
+        longer = []
+        for ties, left in begun:
+            fewer = tuple(number - 1 if place in (one, other) else number for place, number in enumerate(left))
+            longer += [(ties + ((one, other),), fewer), (ties, left)]
+        # Behind its last pair a place has nothing left to take.
+        begun = [
+            (ties, left) for ties, left in longer
+            if min(left) >= 0 and max(left) < places and (other < places - 1 or left[one] == 0)
+        ]
+    return sorted((places, ties) for ties, left in begun if set(left) == {0})
+
+
+def written(web):
+    row = "web"
+    for tie in web[1]:
+        row += " " + str(tie[0]) + "-" + str(tie[1])
+    return row

@@ -3,7 +3,9 @@
 import itertools
 import unittest
 
-from small import NOT_TALLIES, SIXTY, all_pairs, counted, great_webs, round_web
+from small import (
+    NOT_TALLIES, SIXTY, all_pairs, counted, great_webs, is_wall, room_by_the_words, round_web, told_wall,
+)
 from tallyweb.errors import BadNumber, BadTally
 from tallyweb.laying import answer_shows, answered
 from tallyweb.thick import least_most, thick_answered, thick_room, thick_shows
@@ -13,30 +15,6 @@ GREATEST = 10 ** 6
 NOT_MOSTS = (0, -1, -2, -GREATEST, GREATEST + 1, 10 ** 7, SIXTY, -SIXTY)
 NUMBERS = (0, 1, 2, 3, 4, 5, -1, -2, 23, 24, 25, SIXTY, -SIXTY)
 WALLS = [("odd",)] + [(word, number) for word in ("below", "wall") for number in NUMBERS]
-
-
-def room_by_the_words(tally, most, r):
-    falling = sorted(range(len(tally)), key=lambda place: (-tally[place], place))
-    held = most * r * (r - 1)
-    for place in falling[r:]:
-        held += tally[place] if tally[place] < most * r else most * r
-    for place in falling[:r]:
-        held -= tally[place]
-    return held
-
-
-def is_wall(tally, most, wall):
-    if wall[0] == "odd":
-        return sum(tally) % 2 == 1
-    if wall[0] == "below":
-        return wall[1] in range(len(tally)) and tally[wall[1]] < 0
-    return wall[1] in range(1, len(tally) + 1) and room_by_the_words(tally, most, wall[1]) < 0
-
-
-def told_wall(tally, most):
-    walls = [("below", place) for place in range(len(tally))] + [("odd",)]
-    walls += [("wall", r) for r in range(1, len(tally) + 1)]
-    return next((wall for wall in walls if is_wall(tally, most, wall)), None)
 
 
 def thick_counted(web):
@@ -96,7 +74,7 @@ class ThickRoom(unittest.TestCase):
             for tally in itertools.product((-3, 0, 1, 2, 5, 8), repeat=places):
                 for most in (1, 2, 3, 7):
                     for r in range(places + 1):
-                        self.assertEqual(thick_room(tally, most, r), room_by_the_words(tally, most, r))
+                        self.assertEqual(thick_room(tally, most, r), room_by_the_words(tally, r, most))
 
     def test_with_the_most_1_the_same_as_room(self):
         tallies = list(itertools.product(range(-1, 4), repeat=4)) + [counted(web) for web in great_webs()]
@@ -110,7 +88,7 @@ class ThickRoom(unittest.TestCase):
             tally[0] -= 2 * most * len(tally)
             for handed in (tally, tuple(tally)):
                 for r in range(len(tally) + 1):
-                    self.assertEqual(thick_room(handed, most, r), room_by_the_words(tally, most, r))
+                    self.assertEqual(thick_room(handed, most, r), room_by_the_words(tally, r, most))
         # With all the ties that are let there is no room to spare, whichever places are taken.
         for r in range(25):
             self.assertEqual(thick_room([23 * GREATEST] * 24, GREATEST, r), 0)
@@ -328,7 +306,7 @@ class ThickShows(unittest.TestCase):
                 for most in (1, 2, 4):
                     for wall in WALLS:
                         shown = thick_shows(tally, most, ("wall", wall))
-                        self.assertIs(shown, is_wall(tally, most, wall), (tally, most, wall))
+                        self.assertIs(shown, is_wall(tally, wall, most), (tally, most, wall))
 
     def test_any_right_wall_and_no_wrong_one(self):
         shown = [wall for wall in WALLS if thick_shows([9, 9, -1], 2, ("wall", wall))]

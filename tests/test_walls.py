@@ -3,7 +3,7 @@
 import itertools
 import unittest
 
-from small import NOT_TALLIES, SIXTY, all_webs, counted, great_webs, webs_by_tally
+from small import NOT_TALLIES, SIXTY, all_webs, counted, great_webs, room_by_the_words, webs_by_tally
 from tallyweb.errors import BadNumber, BadTally
 from tallyweb.walls import room, wall_of, wall_shows
 
@@ -19,16 +19,6 @@ GREAT_TALLIES = (
     [SIXTY] * 23 + [-SIXTY],
     [SIXTY - place for place in range(24)],
 )
-
-
-def room_by_the_words(tally, r):
-    order = sorted(range(len(tally)), key=lambda place: (-tally[place], place))
-    space = r * (r - 1)
-    for place in order[r:]:
-        space += r if r < tally[place] else tally[place]
-    for place in order[:r]:
-        space -= tally[place]
-    return space
 
 
 class Room(unittest.TestCase):
